@@ -1,0 +1,150 @@
+package tests
+
+import (
+	"fmt"
+	"slices"
+	"testing"
+
+	"loop.example/colophon/impl"
+)
+
+// call is a function of the program with its lists; what it answers is told as lists.
+type call struct {
+	name string
+	do   func(a []int, b []int) [][]int
+}
+
+func calls() []call {
+	return []call{
+		{"Utf8Put", func(a []int, b []int) [][]int { impl.Utf8Put(a); return nil }},
+		{"ClusterStarts", func(a []int, b []int) [][]int { return [][]int{impl.ClusterStarts(a)} }},
+		{"ClusterAt", func(a []int, b []int) [][]int { impl.ClusterAt(a, 3); return nil }},
+		{"ClusterWide", func(a []int, b []int) [][]int { impl.ClusterWide(a, 3); return nil }},
+		{"LevelBase", func(a []int, b []int) [][]int { impl.LevelBase(a); return nil }},
+		{"LevelsTold", func(a []int, b []int) [][]int {
+			levels, classes := impl.LevelsTold(a, 1)
+			return [][]int{levels, classes}
+		}},
+		{"LevelRuns", func(a []int, b []int) [][]int { return impl.LevelRuns(a, 0) }},
+		{"LevelWeak", func(a []int, b []int) [][]int { return [][]int{impl.LevelWeak(b, cR)} }},
+		{"LevelPlain", func(a []int, b []int) [][]int { return [][]int{impl.LevelPlain(b, cR, cL, 1)} }},
+		{"LevelsOf", func(a []int, b []int) [][]int { return [][]int{impl.LevelsOf(a, 0)} }},
+		{"LevelMates", func(a []int, b []int) [][]int { return impl.LevelMates(a, b) }},
+		{"LineLevels", func(a []int, b []int) [][]int { return [][]int{impl.LineLevels(a, 0, 1, len(a))} }},
+		{"OrderOf", func(a []int, b []int) [][]int { return [][]int{impl.OrderOf(b)} }},
+		{"OrderBack", func(a []int, b []int) [][]int { return [][]int{impl.OrderBack(b)} }},
+		{"RunsOf", func(a []int, b []int) [][]int { impl.RunsOf(b); return nil }},
+		{"SeenOf", func(a []int, b []int) [][]int { return [][]int{impl.SeenOf(a, 1, 1, len(a))} }},
+	}
+}
+
+const mark = -987654321
+
+// roomy is a list with marked room behind its end.
+func roomy(list []int) []int {
+	return joined(list, repeated(mark, 100))[:len(list)]
+}
+
+func whole(list []int) []int {
+	return list[:cap(list)]
+}
+
+// checkMemory writes all over an answer, list by list, spare room included: nothing else may change by that.
+func checkMemory(t *testing.T, c call, a []int, b []int) {
+	t.Helper()
+	a, b = roomy(a), roomy(b)
+	wholeA, wholeB := slices.Clone(whole(a)), slices.Clone(whole(b))
+	answer := c.do(a, b)
+	told := fmt.Sprint(answer)
+	for i, list := range answer {
+		var others []string
+		for _, other := range answer[i+1:] {
+			others = append(others, fmt.Sprint(whole(other)))
+		}
+		for j := range whole(list) {
+			whole(list)[j] = mark + 1
+		}
+		for j, other := range answer[i+1:] {
+			if fmt.Sprint(whole(other)) != others[j] {
+				t.Fatalf("%s: two lists of one answer share memory", c.name)
+			}
+		}
+	}
+	if !slices.Equal(whole(a), wholeA) || !slices.Equal(whole(b), wholeB) {
+		t.Fatalf("%s: an argument is not as it was", c.name)
+	}
+	if again := fmt.Sprint(c.do(a, b)); again != told {
+		t.Fatalf("%s: %s, and again %s", c.name, told, again)
+	}
+}
+
+func TestMemoryOfAnswers(t *testing.T) {
+	text := runesOf("a(\u2067\u05d0[1]\u2069b)\u202b{c}\u202c \u2067x\u2069")
+	classes := repeated(cON, len(text))
+	for _, c := range calls() {
+		checkMemory(t, c, text, classes)
+		if answer := c.do(text, classes); (c.name == "LevelRuns" || c.name == "LevelMates") && len(answer) < 3 {
+			t.Errorf("%s: %v has too few lists to tell", c.name, answer)
+		}
+	}
+	someTexts(300, func(runes []int) {
+		list := make([]int, len(runes))
+		for i := range list {
+			list[i] = 1 + (runes[i]+i)%22
+		}
+		for _, c := range calls() {
+			checkMemory(t, c, runes, list)
+		}
+	})
+}
+
+func TestMemoryOfRuns(t *testing.T) {
+	levels := roomy([]int{0, 1, 1, -1, 2, 0})
+	before := slices.Clone(whole(levels))
+	runs := impl.RunsOf(levels)
+	told := fmt.Sprint(runs)
+	for i := range runs[:cap(runs)] {
+		runs[:cap(runs)][i] = impl.Run{From: mark, To: mark, Level: mark}
+	}
+	if !slices.Equal(whole(levels), before) {
+		t.Error("the levels are not as they were")
+	}
+	same(t, "again", impl.RunsOf(levels), told)
+}
+
+func TestMemoryOfLetters(t *testing.T) {
+	first, _ := impl.Utf8Get("a\u05d0b")
+	second, _ := impl.Utf8Get("a\u05d0b")
+	for i := range whole(first) {
+		whole(first)[i] = mark
+	}
+	same(t, "letters", second, []int{'a', 1488, 'b'})
+}
+
+// Whatever is handed in, there is an answer.
+func TestNoCallPanics(t *testing.T) {
+	odd := []int{-1 << 63, -2, -1, 0, 1, 2, 3, 22, 23, 79, 80, 81, 55296, 1114112, 1<<63 - 1}
+	lists := append(badLetters(), nil, odd, []int{}, sampleLetters(), repeated(0, 80), repeated(22, 80), repeated(23, 3))
+	for _, a := range lists {
+		for _, b := range lists {
+			for _, c := range calls() {
+				checkMemory(t, c, a[:min(len(a), 200)], b[:min(len(b), 200)])
+			}
+		}
+		for _, n := range odd {
+			impl.ClusterAt(a, n)
+			impl.ClusterWide(a, n)
+			impl.LevelsTold(a, n)
+			impl.LevelRuns(a, n)
+			impl.LevelsOf(a, n)
+			impl.LevelWeak(a, n)
+			impl.RuneWide(n)
+			for _, m := range odd {
+				impl.LevelPlain(a, 1, m, n)
+				impl.LevelPlain(a, n, m, 1)
+				impl.LineLevels(a, 0, n, m)
+				impl.SeenOf(a, 1, n, m)
+			}
+		}
+	}
+}
