@@ -35,6 +35,9 @@ func calls() []call {
 		{"OrderBack", func(a []int, b []int) [][]int { return [][]int{impl.OrderBack(b)} }},
 		{"RunsOf", func(a []int, b []int) [][]int { impl.RunsOf(b); return nil }},
 		{"SeenOf", func(a []int, b []int) [][]int { return [][]int{impl.SeenOf(a, 1, 1, len(a))} }},
+		{"BreaksOf", func(a []int, b []int) [][]int { return [][]int{impl.BreaksOf(a)} }},
+		{"WordsOf", func(a []int, b []int) [][]int { return [][]int{impl.WordsOf(a)} }},
+		{"WidesOf", func(a []int, b []int) [][]int { return [][]int{impl.WidesOf(a, nil)} }},
 	}
 }
 
@@ -112,6 +115,48 @@ func TestMemoryOfRuns(t *testing.T) {
 	same(t, "again", impl.RunsOf(levels), told)
 }
 
+// spanCalls is the functions with spans; what they answer are spans, or nothing of that kind.
+func spanCalls() []func(list spans, count int, n int) spans {
+	return []func(list spans, count int, n int) spans{
+		func(list spans, count int, n int) spans { impl.SpansOk(list, count); return nil },
+		func(list spans, count int, n int) spans { impl.SpanAt(list, n); return nil },
+		func(list spans, count int, n int) spans { return impl.SpansPlain(list, count) },
+		func(list spans, count int, n int) spans { return impl.SpansMove(list, count, n, 1) },
+		func(list spans, count int, n int) spans { return impl.SpansMove(list, count, 1, -n) },
+		func(list spans, count int, n int) spans { return impl.SpansMove(list, count, 2, 0) },
+		func(list spans, count int, n int) spans {
+			put, _ := impl.SpansPut(list, count, span(n, n+1, 5, 1))
+			return put
+		},
+		func(list spans, count int, n int) spans { impl.WidesOf(repeated('a', 9), list); return nil },
+	}
+}
+
+func TestMemoryOfSpans(t *testing.T) {
+	odd := []int{-1 << 63, -1, 0, 1, 2, 8, 9, 80, 81, 1<<63 - 1}
+	for _, list := range append(wrongSpans(), nil, spans{span(1, 3, 20, 1), span(4, 6, 5, 2)}, manySpans(12), manySpans(13)) {
+		room := slices.Repeat(spans{span(mark, mark, mark, mark)}, 30)
+		copy(room, list)
+		list = room[:len(list)]
+		before := slices.Clone(room)
+		for i, do := range spanCalls() {
+			for _, count := range odd {
+				for _, n := range odd {
+					answer := do(list, count, n)
+					told := fmt.Sprint(answer)
+					for j := range answer[:cap(answer)] {
+						answer[:cap(answer)][j] = span(mark+1, mark+1, mark+1, mark+1)
+					}
+					if !slices.Equal(room, before) {
+						t.Fatalf("call %d of %v: the spans are not as they were", i, before[:len(list)])
+					}
+					same(t, "again", do(list, count, n), told)
+				}
+			}
+		}
+	}
+}
+
 func TestMemoryOfLetters(t *testing.T) {
 	first, _ := impl.Utf8Get("a\u05d0b")
 	second, _ := impl.Utf8Get("a\u05d0b")
@@ -139,6 +184,7 @@ func TestNoCallPanics(t *testing.T) {
 			impl.LevelsOf(a, n)
 			impl.LevelWeak(a, n)
 			impl.RuneWide(n)
+			impl.RuneLine(n)
 			for _, m := range odd {
 				impl.LevelPlain(a, 1, m, n)
 				impl.LevelPlain(a, n, m, 1)
