@@ -11,7 +11,7 @@ type Run struct {
 
 // LineLevels is the levels of a line, from a letter up to another one: what stands empty at its end has the level of all.
 func LineLevels(runes []int, base int, from int, to int) []int {
-	if from < 0 || to < from || to > len(runes) {
+	if !lineThere(runes, from, to) {
 		return nil
 	}
 	all := LevelsOf(runes, base)
@@ -31,6 +31,10 @@ func LineLevels(runes []int, base int, from int, to int) []int {
 		}
 	}
 	return levels
+}
+
+func lineThere(runes []int, from int, to int) bool {
+	return from >= 0 && to >= from && to <= len(runes)
 }
 
 func endsPart(r int) bool {
@@ -121,11 +125,19 @@ func SeenOf(runes []int, base int, from int, to int) []int {
 	levels := LineLevels(runes, base, from, to)
 	var seen []int
 	for _, at := range OrderOf(levels) {
-		r := runes[from+at]
-		if levels[at]%2 == 1 {
-			r = RuneMirror(r)
-		}
-		seen = append(seen, r)
+		seen = append(seen, seenOn(runes[from+at], levels[at]))
 	}
 	return seen
+}
+
+// seenOn is what is seen of a letter on a level.
+func seenOn(r int, level int) int {
+	if isOdd(level) {
+		return RuneMirror(r)
+	}
+	return r
+}
+
+func isOdd(level int) bool {
+	return level%2 != 0
 }

@@ -38,6 +38,11 @@ func calls() []call {
 		{"BreaksOf", func(a []int, b []int) [][]int { return [][]int{impl.BreaksOf(a)} }},
 		{"WordsOf", func(a []int, b []int) [][]int { return [][]int{impl.WordsOf(a)} }},
 		{"WidesOf", func(a []int, b []int) [][]int { return [][]int{impl.WidesOf(a, nil)} }},
+		{"LineWide", func(a []int, b []int) [][]int { impl.LineWide(a, b, 0, len(a)); return nil }},
+		{"FillLines, greedy", func(a []int, b []int) [][]int { return [][]int{impl.FillLines(a, nil, 300, impl.FillGreedy)} }},
+		{"FillLines, best", func(a []int, b []int) [][]int { return [][]int{impl.FillLines(a, nil, 900, impl.FillBest)} }},
+		{"FillCost", func(a []int, b []int) [][]int { impl.FillCost(a, nil, 300, b); return nil }},
+		{"FillFits", func(a []int, b []int) [][]int { impl.FillFits(a, nil, 300, b); return nil }},
 	}
 }
 
@@ -129,6 +134,22 @@ func spanCalls() []func(list spans, count int, n int) spans {
 			return put
 		},
 		func(list spans, count int, n int) spans { impl.WidesOf(repeated('a', 9), list); return nil },
+		func(list spans, count int, n int) spans {
+			impl.FillLines(runesOf("aaa bb cc"), list, 400, n)
+			return nil
+		},
+		func(list spans, count int, n int) spans {
+			impl.FillCost(runesOf("aaa bb cc"), list, n, []int{4, 9})
+			return nil
+		},
+		func(list spans, count int, n int) spans {
+			impl.FillFits(runesOf("aaa bb cc"), list, n, []int{4, 9})
+			return nil
+		},
+		func(list spans, count int, n int) spans {
+			impl.LineMake(runesOf("aaa bb cc"), list, n, 0, 9)
+			return nil
+		},
 	}
 }
 
@@ -151,6 +172,53 @@ func TestMemoryOfSpans(t *testing.T) {
 						t.Fatalf("call %d of %v: the spans are not as they were", i, before[:len(list)])
 					}
 					same(t, "again", do(list, count, n), told)
+				}
+			}
+		}
+	}
+}
+
+// lineCalls is the functions of lines; what they answer are lines, or nothing of that kind.
+func lineCalls() []func(runes []int, l impl.Line, n int, m int) impl.Line {
+	return []func(runes []int, l impl.Line, n int, m int) impl.Line{
+		func(runes []int, l impl.Line, n int, m int) impl.Line { return impl.LineMake(runes, nil, 1, n, m) },
+		func(runes []int, l impl.Line, n int, m int) impl.Line { return impl.LineMake(runes, nil, n, 0, m) },
+		func(runes []int, l impl.Line, n int, m int) impl.Line { return impl.LineStand(runes, l, 0, n, m) },
+		func(runes []int, l impl.Line, n int, m int) impl.Line { return impl.LineStand(runes, l, m, n, 0) },
+		func(runes []int, l impl.Line, n int, m int) impl.Line { return impl.LineSpread(runes, l, n) },
+		func(runes []int, l impl.Line, n int, m int) impl.Line { impl.LineHit(l, n); return impl.Line{} },
+		func(runes []int, l impl.Line, n int, m int) impl.Line { impl.LineCaret(l, n); return impl.Line{} },
+	}
+}
+
+// oddLines is lines of three letters that are ok, just ok, and wrong.
+func oddLines() []impl.Line {
+	ok := line(0, 3, 260, glyph(0, 'a', 0, 100, 0), glyph(1, ' ', 100, 60, 0), glyph(2, 'b', 160, 100, 0))
+	wrong := line(least, most, least, glyph(least, most, most, most, most), glyph(most, least, least, least, least))
+	return append(append(justLines(), wrongLines()...), impl.Line{}, ok, wrong)
+}
+
+func TestMemoryOfLines(t *testing.T) {
+	odd := []int{least, -1, 0, 1, 2, 3, 4, 500, impl.WideMax, impl.WideMax + 1, 2 * impl.WideMax, most}
+	marked := glyph(mark, mark, mark, mark, mark)
+	runes := roomy(runesOf("a b"))
+	letters := slices.Clone(whole(runes))
+	for _, l := range oddLines() {
+		room := append(slices.Clone(l.Glyphs), slices.Repeat([]impl.Glyph{marked}, 10)...)
+		before := slices.Clone(room)
+		l.Glyphs = room[:len(l.Glyphs)]
+		for i, do := range lineCalls() {
+			for _, n := range odd {
+				for _, m := range odd {
+					answer := do(runes, l, n, m)
+					told := fmt.Sprint(answer)
+					for j := range answer.Glyphs[:cap(answer.Glyphs)] {
+						answer.Glyphs[:cap(answer.Glyphs)][j] = marked
+					}
+					if !slices.Equal(room, before) || !slices.Equal(whole(runes), letters) {
+						t.Fatalf("call %d of %v: an argument is not as it was", i, before[:len(l.Glyphs)])
+					}
+					same(t, "again", do(runes, l, n, m), told)
 				}
 			}
 		}
@@ -190,6 +258,11 @@ func TestNoCallPanics(t *testing.T) {
 				impl.LevelPlain(a, n, m, 1)
 				impl.LineLevels(a, 0, n, m)
 				impl.SeenOf(a, 1, n, m)
+				impl.LineWide(a, repeated(1, len(a)), n, m)
+				impl.LineMake(a, nil, 1, n, m)
+				impl.FillLines(a, nil, n, m)
+				impl.FillCost(a, nil, 100, []int{n, m})
+				impl.FillFits(a, nil, n, []int{m})
 			}
 		}
 	}
