@@ -84,12 +84,17 @@ func ClusterWide(runes []int, at int) int {
 	if !found {
 		return 0
 	}
+	return wideOfCluster(runes, starts, which)
+}
+
+// wideOfCluster is how wide one of the clusters is that begin so.
+func wideOfCluster(runes []int, starts []int, which int) int {
 	end := len(runes)
 	if which+1 < len(starts) {
 		end = starts[which+1]
 	}
 	wide := 0
-	for _, r := range runes[at:end] {
+	for _, r := range runes[starts[which]:end] {
 		wide = max(wide, RuneWide(r))
 	}
 	return wide

@@ -3,6 +3,7 @@ package tests
 import (
 	"fmt"
 	"slices"
+	"strings"
 	"testing"
 
 	"loop.example/colophon/impl"
@@ -265,5 +266,133 @@ func TestNoCallPanics(t *testing.T) {
 				impl.FillFits(a, nil, n, []int{m})
 			}
 		}
+	}
+}
+
+// paraAnswer is what a function of paragraphs answers, as far as it is lists.
+type paraAnswer struct {
+	lines []impl.Line
+	rects []impl.Rect
+	para  impl.Para
+}
+
+// paraCalls is the functions of paragraphs.
+func paraCalls() []func(p impl.Para, n int, m int) paraAnswer {
+	return []func(p impl.Para, n int, m int) paraAnswer{
+		func(p impl.Para, n int, m int) paraAnswer { impl.ParaCheck(p); return paraAnswer{} },
+		func(p impl.Para, n int, m int) paraAnswer {
+			lines, _ := impl.ParaLines(p)
+			return paraAnswer{lines: lines}
+		},
+		func(p impl.Para, n int, m int) paraAnswer { impl.ParaHit(p, n, m); return paraAnswer{} },
+		func(p impl.Para, n int, m int) paraAnswer { impl.ParaCaret(p, n); return paraAnswer{} },
+		func(p impl.Para, n int, m int) paraAnswer { return paraAnswer{rects: impl.ParaRects(p, n, m)} },
+		func(p impl.Para, n int, m int) paraAnswer {
+			put, _ := impl.ParaPut(p, n, "")
+			return paraAnswer{para: put}
+		},
+		func(p impl.Para, n int, m int) paraAnswer {
+			put, _ := impl.ParaPut(p, n, "x")
+			return paraAnswer{para: put}
+		},
+		func(p impl.Para, n int, m int) paraAnswer {
+			cut, _ := impl.ParaCut(p, n, m)
+			return paraAnswer{para: cut}
+		},
+		func(p impl.Para, n int, m int) paraAnswer {
+			styled, _ := impl.ParaStyle(p, span(n, m, 20, 1))
+			return paraAnswer{para: styled}
+		},
+		func(p impl.Para, n int, m int) paraAnswer {
+			styled, _ := impl.ParaStyle(p, span(1, 2, n, m))
+			return paraAnswer{para: styled}
+		},
+		func(p impl.Para, n int, m int) paraAnswer { impl.ParaShow(p); return paraAnswer{} },
+	}
+}
+
+func wholeGlyphs(l impl.Line) []impl.Glyph {
+	return l.Glyphs[:cap(l.Glyphs)]
+}
+
+// markAll writes all over an answer, spare room included, and says whether a list of it changed by that ahead of its turn.
+func (a paraAnswer) markAll() bool {
+	shared := false
+	for i, l := range a.lines {
+		var others []string
+		for _, other := range a.lines[i+1:] {
+			others = append(others, fmt.Sprint(wholeGlyphs(other)))
+		}
+		for j := range wholeGlyphs(l) {
+			wholeGlyphs(l)[j] = glyph(mark, mark, mark, mark, mark)
+		}
+		for j, other := range a.lines[i+1:] {
+			shared = shared || fmt.Sprint(wholeGlyphs(other)) != others[j]
+		}
+	}
+	for i := range a.lines[:cap(a.lines)] {
+		a.lines[:cap(a.lines)][i] = line(mark, mark, mark)
+	}
+	for i := range a.rects[:cap(a.rects)] {
+		a.rects[:cap(a.rects)][i] = impl.Rect{Line: mark, X: mark, Wide: mark}
+	}
+	for i := range a.para.Spans[:cap(a.para.Spans)] {
+		a.para.Spans[:cap(a.para.Spans)][i] = span(mark+1, mark+1, mark+1, mark+1)
+	}
+	return shared
+}
+
+// oddParas is paragraphs that are ok and such as are not.
+func oddParas() []impl.Para {
+	list := []impl.Para{{}, para("", 2, 300, 1, 3)}
+	for align := impl.AlignStart; align <= impl.AlignBoth; align++ {
+		list = append(list, para("a b \u05d0\u05d1 c\u0301 d\nef", align%3, 400, align%2, align, span(0, 2, 10, 0), span(3, 5, 20, 1), span(5, 6, 20, 1)), para("ab cd ef", align%2, 250, 0, align, manySpans(8)...))
+	}
+	for _, c := range wrongParas() {
+		list = append(list, c.p)
+	}
+	for _, wrong := range wrongSpans() {
+		list = append(list, para("abc def g", 0, 300, 0, 0, wrong...))
+	}
+	return append(list, para(textOf(repeated(' ', 80)), 1, 0, 1, 3, manySpans(12)...), impl.Para{Text: "\xff", Base: least, Wide: most, Mode: least, Align: most})
+}
+
+func TestMemoryOfParagraphs(t *testing.T) {
+	odd := []int{least, -1, 0, 1, 2, 8, 9, 80, 81, impl.WideMax, most}
+	for _, p := range oddParas() {
+		room := slices.Repeat(spans{span(mark, mark, mark, mark)}, 30)
+		copy(room, p.Spans)
+		p.Spans = room[:len(p.Spans)]
+		before := slices.Clone(room)
+		for i, do := range paraCalls() {
+			for _, n := range odd {
+				for _, m := range odd {
+					answer := do(p, n, m)
+					told := fmt.Sprintf("%+v", answer)
+					if answer.markAll() {
+						t.Fatalf("call %d of %+v: two lists of one answer share memory", i, p)
+					}
+					if !slices.Equal(room, before) {
+						t.Fatalf("call %d of %+v: the spans are not as they were", i, p)
+					}
+					same(t, "again", fmt.Sprintf("%+v", do(p, n, m)), told)
+				}
+			}
+		}
+	}
+}
+
+func TestMemoryOfSessions(t *testing.T) {
+	lines := append(exampleLinesAsked(), slices.Repeat([]string{"what"}, 60)...)
+	before := slices.Clone(lines)
+	for count := range lines {
+		impl.Session(lines[:count])
+		if !slices.Equal(lines, before) {
+			t.Fatalf("%d lines: they are not as they were", count)
+		}
+	}
+	for _, line := range []string{"\x00", "\xff", strings.Repeat(" ", 5000), "text " + strings.Repeat("\xff", 5000), "put " + strings.Repeat("9", 5000) + " x", "wide " + strings.Repeat("0", 5000), "style 0 1 99999 99999", "style 99999 99999 1 1", "cut 99999 99999", "mark 99999 0"} {
+		told := impl.Session([]string{"text ab", line, "show", line})
+		same(t, "again", impl.Session([]string{"text ab", line, "show", line}), told)
 	}
 }
