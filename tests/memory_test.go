@@ -44,6 +44,11 @@ func calls() []call {
 		{"FillLines, best", func(a []int, b []int) [][]int { return [][]int{impl.FillLines(a, nil, 900, impl.FillBest)} }},
 		{"FillCost", func(a []int, b []int) [][]int { impl.FillCost(a, nil, 300, b); return nil }},
 		{"FillFits", func(a []int, b []int) [][]int { impl.FillFits(a, nil, 300, b); return nil }},
+		{"WordStarts", func(a []int, b []int) [][]int { return [][]int{impl.WordStarts(a)} }},
+		{"WordAt", func(a []int, b []int) [][]int { impl.WordAt(a, 3); return nil }},
+		{"WordCount", func(a []int, b []int) [][]int { impl.WordCount(a); return nil }},
+		{"ScriptsOf", func(a []int, b []int) [][]int { return [][]int{impl.ScriptsOf(a)} }},
+		{"ScriptRuns", func(a []int, b []int) [][]int { impl.ScriptRuns(a); return nil }},
 	}
 }
 
@@ -107,18 +112,45 @@ func TestMemoryOfAnswers(t *testing.T) {
 	})
 }
 
+// markRuns writes all over runs, spare room included.
+func markRuns(list runs) {
+	for i := range list[:cap(list)] {
+		list[:cap(list)][i] = run(mark, mark, mark)
+	}
+}
+
 func TestMemoryOfRuns(t *testing.T) {
-	levels := roomy([]int{0, 1, 1, -1, 2, 0})
-	before := slices.Clone(whole(levels))
-	runs := impl.RunsOf(levels)
-	told := fmt.Sprint(runs)
-	for i := range runs[:cap(runs)] {
-		runs[:cap(runs)][i] = impl.Run{From: mark, To: mark, Level: mark}
+	levels, letters := roomy([]int{0, 1, 1, -1, 2, 0}), roomy(runesOf("a(\u05d0)1\u4e00"))
+	beforeLevels, beforeLetters := slices.Clone(whole(levels)), slices.Clone(whole(letters))
+	told := fmt.Sprint(impl.RunsOf(levels), impl.ScriptRuns(letters))
+	markRuns(impl.RunsOf(levels))
+	markRuns(impl.ScriptRuns(letters))
+	if !slices.Equal(whole(levels), beforeLevels) || !slices.Equal(whole(letters), beforeLetters) {
+		t.Error("the levels or letters are not as they were")
 	}
-	if !slices.Equal(whole(levels), before) {
-		t.Error("the levels are not as they were")
+	same(t, "again", fmt.Sprint(impl.RunsOf(levels), impl.ScriptRuns(letters)), told)
+}
+
+func TestMemoryOfRunsThatAreCut(t *testing.T) {
+	lists := slices.Concat(brokenRuns(), otherRuns(), []runs{{run(0, 5, 1)}, {run(0, 2, 1), run(2, 5, 0)}, {run(0, 3, 4), run(3, 4, 4), run(4, 5, 2)}})
+	withRoom := func(list runs) runs {
+		return append(slices.Clone(list), slices.Repeat(runs{run(mark, mark, mark)}, 9)...)
 	}
-	same(t, "again", impl.RunsOf(levels), told)
+	for _, a := range lists {
+		for _, b := range lists {
+			roomA, roomB := withRoom(a), withRoom(b)
+			do := func() runs { return impl.RunsCut(roomA[:len(a)], roomB[:len(b)]) }
+			cut := do()
+			told := fmt.Sprint(cut)
+			for i := range cut[:cap(cut)] {
+				cut[:cap(cut)][i] = run(mark+1, mark+1, mark+1)
+			}
+			if !slices.Equal(roomA, withRoom(a)) || !slices.Equal(roomB, withRoom(b)) {
+				t.Fatalf("cut of %v and %v: these are not as they were", a, b)
+			}
+			same(t, "again", do(), told)
+		}
+	}
 }
 
 // spanCalls is the functions with spans; what they answer are spans, or nothing of that kind.
@@ -254,6 +286,8 @@ func TestNoCallPanics(t *testing.T) {
 			impl.LevelWeak(a, n)
 			impl.RuneWide(n)
 			impl.RuneLine(n)
+			impl.RuneScript(n)
+			impl.WordAt(a, n)
 			for _, m := range odd {
 				impl.LevelPlain(a, 1, m, n)
 				impl.LevelPlain(a, n, m, 1)
@@ -308,6 +342,14 @@ func paraCalls() []func(p impl.Para, n int, m int) paraAnswer {
 			return paraAnswer{para: styled}
 		},
 		func(p impl.Para, n int, m int) paraAnswer { impl.ParaShow(p); return paraAnswer{} },
+		func(p impl.Para, n int, m int) paraAnswer { impl.MoveLeft(p, n); return paraAnswer{} },
+		func(p impl.Para, n int, m int) paraAnswer { impl.MoveRight(p, n); return paraAnswer{} },
+		func(p impl.Para, n int, m int) paraAnswer { impl.MoveLine(p, n, m); return paraAnswer{} },
+		func(p impl.Para, n int, m int) paraAnswer { impl.MoveHome(p, n); return paraAnswer{} },
+		func(p impl.Para, n int, m int) paraAnswer {
+			trimmed, _ := impl.ParaTrim(p, n)
+			return paraAnswer{para: trimmed}
+		},
 	}
 }
 
@@ -376,6 +418,120 @@ func TestMemoryOfParagraphs(t *testing.T) {
 						t.Fatalf("call %d of %+v: the spans are not as they were", i, p)
 					}
 					same(t, "again", fmt.Sprintf("%+v", do(p, n, m)), told)
+				}
+			}
+		}
+	}
+}
+
+// docAnswer is what a function of documents answers, as far as it is lists.
+type docAnswer struct {
+	places []impl.Place
+	pages  []int
+	doc    impl.Doc
+}
+
+// docCalls is the functions of documents.
+func docCalls() []func(d impl.Doc, n int, m int) docAnswer {
+	return []func(d impl.Doc, n int, m int) docAnswer{
+		func(d impl.Doc, n int, m int) docAnswer { impl.DocOk(d); return docAnswer{} },
+		func(d impl.Doc, n int, m int) docAnswer { return docAnswer{places: impl.DocPlaces(d)} },
+		func(d impl.Doc, n int, m int) docAnswer { impl.DocHigh(d); return docAnswer{} },
+		func(d impl.Doc, n int, m int) docAnswer { impl.DocHit(d, n, m); return docAnswer{} },
+		func(d impl.Doc, n int, m int) docAnswer { return docAnswer{pages: impl.DocPages(d, n)} },
+		func(d impl.Doc, n int, m int) docAnswer {
+			split, _ := impl.DocSplit(d, n, m)
+			return docAnswer{doc: split}
+		},
+		func(d impl.Doc, n int, m int) docAnswer {
+			joined, _ := impl.DocJoin(d, n)
+			return docAnswer{doc: joined}
+		},
+		func(d impl.Doc, n int, m int) docAnswer { impl.DocText(d); return docAnswer{} },
+	}
+}
+
+// wholeParas is a document's paragraphs, spare room included.
+func wholeParas(d impl.Doc) []impl.Para {
+	return d.Paras[:cap(d.Paras)]
+}
+
+func wholeSpans(p impl.Para) spans {
+	return p.Spans[:cap(p.Spans)]
+}
+
+// toldOfDoc tells all of a document, spare room included.
+func toldOfDoc(d impl.Doc) string {
+	told := fmt.Sprint(d.Gap)
+	for _, p := range wholeParas(d) {
+		told += fmt.Sprintf("%+v %v", p, wholeSpans(p))
+	}
+	return told
+}
+
+// markAll writes all over an answer, and says whether a list of it changed by that ahead of its turn.
+func (a docAnswer) markAll() bool {
+	shared := false
+	for i := range a.places[:cap(a.places)] {
+		a.places[:cap(a.places)][i] = impl.Place{Para: mark, Line: mark, Y: mark, High: mark}
+	}
+	for i := range whole(a.pages) {
+		whole(a.pages)[i] = mark
+	}
+	paras := wholeParas(a.doc)
+	for i, p := range paras {
+		rest := toldOfDoc(impl.Doc{Paras: paras[i+1:]})
+		for j := range wholeSpans(p) {
+			wholeSpans(p)[j] = span(mark+1, mark+1, mark+1, mark+1)
+		}
+		paras[i] = para("marked", mark, mark, mark, mark)
+		shared = shared || toldOfDoc(impl.Doc{Paras: paras[i+1:]}) != rest
+	}
+	return shared
+}
+
+// docWithRoom is a document in memory of its own, with marked room behind its paragraphs, and behind the spans of each.
+func docWithRoom(d impl.Doc) impl.Doc {
+	room := slices.Repeat([]impl.Para{para("room", mark, mark, mark, mark)}, len(d.Paras)+4)
+	for i, p := range d.Paras {
+		p.Spans = append(slices.Clone(p.Spans), slices.Repeat(spans{span(mark, mark, mark, mark)}, 9)...)[:len(p.Spans)]
+		room[i] = p
+	}
+	return impl.Doc{Paras: room[:len(d.Paras)], Gap: d.Gap}
+}
+
+// oddDocs is documents that are ok and such as are not.
+func oddDocs() []impl.Doc {
+	odd, wrong := oddParas(), wrongParas()
+	list := []impl.Doc{doc(-1, plain("a")), doc(0, make([]impl.Para, impl.DocMax+1)...)}
+	for i := 0; i < len(wrong); i += 7 {
+		list = append(list, doc(30, plain("a"), wrong[i].p))
+	}
+	looks := para("ab \u05d0\u05d1 c\u0301d", 2, 300, 0, 3, span(0, 2, 10, 0), span(3, 5, 20, 1), span(5, 6, 20, 1))
+	list = append(list, impl.Doc{}, doc(30), doc(30, looks), doc(30, looks, looks, looks), doc(0, plain(""), looks, plain(""), looks), doc(impl.GapMax, slices.Repeat([]impl.Para{looks}, impl.DocMax)...))
+	for i := 0; i+2 < 12; i++ {
+		list = append(list, doc(30*i, odd[i:i+3]...))
+	}
+	return list
+}
+
+func TestMemoryOfDocuments(t *testing.T) {
+	odd := []int{least, -1, 0, 1, 2, 300, most}
+	for _, d := range oddDocs() {
+		d = docWithRoom(d)
+		before := toldOfDoc(d)
+		for i, do := range docCalls() {
+			for _, n := range odd {
+				for _, m := range odd {
+					answer := do(d, n, m)
+					told := fmt.Sprintf("%+v", answer)
+					if answer.markAll() {
+						t.Fatalf("call %d of %+v: two lists of one answer share memory", i, d)
+					}
+					if toldOfDoc(d) != before {
+						t.Fatalf("call %d of %+v: the document is not as it was", i, d)
+					}
+					same(t, "again", fmt.Sprintf("%+v", do(d, n, m)), told)
 				}
 			}
 		}
